@@ -1,0 +1,69 @@
+import ast
+import inspect
+import pathlib
+import unittest
+
+import posthouse
+from posthouse import bits, tables, texts
+
+PACKAGE = pathlib.Path(posthouse.__file__).resolve().parent
+
+# The order in which the document names the files: each draws from those ahead of it alone.
+FILES = ("errors", "bits", "texts", "tables")
+
+FUNCTIONS = (
+    (bits.is_address, "(thing)"),
+    (bits.is_beginning, "(thing)"),
+    (bits.begins, "(beginning, address)"),
+    (bits.within, "(one, other)"),
+    (bits.shared, "(one, other)"),
+    (bits.least, "(beginning)"),
+    (bits.greatest, "(beginning)"),
+    (bits.in_order, "(beginnings)"),
+    (texts.shown_beginning, "(beginning)"),
+    (texts.shown_address, "(address)"),
+    (texts.read_beginning, "(text)"),
+    (texts.read_address, "(text)"),
+    (tables.Table, "()"),
+    (tables.Table().put, "(beginning, thing)"),
+    (tables.Table().cut, "(beginning)"),
+    (tables.Table().get, "(beginning, other=None)"),
+    (tables.Table().has, "(beginning)"),
+    (tables.Table().count, "()"),
+    (tables.Table().longest, "(address, most=16)"),
+    (tables.Table().rows, "()"),
+    (tables.Table().under, "(beginning)"),
+)
+
+
+def tree_of(name):
+    return ast.parse((PACKAGE / (name + ".py")).read_text())
+
+
+class Interface(unittest.TestCase):
+    def test_arguments(self):
+        for function, arguments in FUNCTIONS:
+            with self.subTest(function=function):
+                self.assertEqual(str(inspect.signature(function)), arguments)
+
+    def test_init_binds_nothing(self):
+        kept = [node for node in tree_of("__init__").body if not isinstance(node, ast.Expr)]
+        self.assertEqual(kept, [])
+
+    def test_every_file_has_its_place(self):
+        found = {path.name for path in PACKAGE.iterdir() if path.name != "__pycache__"}
+        self.assertEqual(found, {name + ".py" for name in FILES + ("__init__",)})
+
+    def test_files_draw_from_those_ahead_alone(self):
+        for place, name in enumerate(FILES):
+            ahead = {"posthouse." + other for other in FILES[:place]}
+            for node in ast.walk(tree_of(name)):
+                with self.subTest(file=name):
+                    self.assertNotIsInstance(node, ast.Import)
+                    if isinstance(node, ast.ImportFrom):
+                        self.assertEqual(node.level, 0)
+                        self.assertIn(node.module, ahead)
+
+
+if __name__ == "__main__":
+    unittest.main()

@@ -1,0 +1,98 @@
+"""A part of the language's rules, those that can be read off a file's tree."""
+
+import ast
+import builtins
+import pathlib
+import re
+import unittest
+
+import posthouse
+
+PACKAGE = pathlib.Path(posthouse.__file__).resolve().parent
+FILES = sorted(PACKAGE.rglob("*.py"))
+
+OWN_NAMES = set(
+    "len range enumerate zip min max sum abs sorted reversed int str bool list tuple dict set frozenset isinstance "
+    "ord repr any all divmod Exception ValueError TypeError KeyError IndexError LookupError ZeroDivisionError "
+    "ArithmeticError OverflowError RuntimeError NotImplementedError AttributeError StopIteration".split()
+)
+RULED_OUT = (
+    ast.With, ast.Match, ast.Delete, ast.Global, ast.Nonlocal, ast.Assert, ast.Yield, ast.YieldFrom, ast.Await,
+    ast.AsyncFunctionDef, ast.AsyncFor, ast.AsyncWith, ast.SetComp, ast.DictComp, ast.GeneratorExp, ast.NamedExpr,
+    ast.Starred, ast.Div, ast.MatMult,
+)
+WORDS = re.compile(
+    r"\b(type|typing|typing_extensions|enum|Enum|IntEnum|StrEnum|Flag|IntFlag|Generic|Protocol|ABC|ABCMeta|"
+    r"namedtuple|NamedTuple|TypedDict|TYPE_CHECKING|abstractmethod)\b|dataclass|overload|contextmanager"
+)
+DUNDERS = ("__init__", "__eq__", "__repr__", "__str__", "__len__", "__name__")
+
+
+def names_in(tree):
+    for node in ast.walk(tree):
+        if isinstance(node, ast.Name):
+            yield node.id
+        elif isinstance(node, ast.Attribute):
+            yield node.attr
+        elif isinstance(node, ast.arg):
+            yield node.arg
+        elif isinstance(node, (ast.FunctionDef, ast.ClassDef)):
+            yield node.name
+
+
+class Language(unittest.TestCase):
+    def test_signs_and_sizes(self):
+        for path in FILES:
+            text = path.read_bytes().decode("ascii")
+            with self.subTest(file=path.name):
+                self.assertRegex(path.name, r"\A[a-z0-9_]+\.py\Z")
+                self.assertRegex(text, r"\A[ -~\n]*\Z")
+                self.assertLessEqual(len(text.splitlines()), 400)
+                self.assertLessEqual(max([len(line) for line in text.splitlines()] + [0]), 120)
+                self.assertIsNone(WORDS.search(text))
+
+    def test_functions_are_short_and_plain(self):
+        for path in FILES:
+            for node in ast.walk(ast.parse(path.read_text())):
+                if isinstance(node, ast.FunctionDef):
+                    with self.subTest(file=path.name, function=node.name):
+                        self.assertLessEqual(node.end_lineno - node.lineno + 1, 40)
+                        self.assertEqual(node.decorator_list, [])
+                        self.assertIsNone(node.args.vararg)
+                        self.assertIsNone(node.args.kwarg)
+                        self.assertEqual(node.args.kwonlyargs + node.args.posonlyargs, [])
+
+    def test_nothing_ruled_out_stands_in_a_file(self):
+        for path in FILES:
+            for node in ast.walk(ast.parse(path.read_text())):
+                with self.subTest(file=path.name, line=getattr(node, "lineno", None)):
+                    self.assertNotIsInstance(node, RULED_OUT)
+                    if isinstance(node, ast.Constant):
+                        self.assertNotIsInstance(node.value, (float, bytes, complex))
+                    if isinstance(node, (ast.For, ast.While)):
+                        self.assertEqual(node.orelse, [])
+                    if isinstance(node, ast.Try):
+                        self.assertEqual(node.finalbody, [])
+
+    def test_names(self):
+        for path in FILES:
+            for name in names_in(ast.parse(path.read_text())):
+                with self.subTest(file=path.name, name=name):
+                    if name not in DUNDERS:
+                        self.assertRegex(name, r"\A[A-Za-z][A-Za-z0-9_]*\Z")
+
+    def test_pythons_own_names(self):
+        for path in FILES:
+            tree = ast.parse(path.read_text())
+            for node in ast.walk(tree):
+                if isinstance(node, ast.Name) and hasattr(builtins, node.id):
+                    with self.subTest(file=path.name, name=node.id):
+                        self.assertIn(node.id, OWN_NAMES)
+                        self.assertIsInstance(node.ctx, ast.Load)
+                if isinstance(node, ast.arg):
+                    with self.subTest(file=path.name, name=node.arg):
+                        self.assertFalse(hasattr(builtins, node.arg))
+
+
+if __name__ == "__main__":
+    unittest.main()
