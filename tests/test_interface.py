@@ -4,12 +4,12 @@ import pathlib
 import unittest
 
 import posthouse
-from posthouse import bits, tables, texts
+from posthouse import bits, houses, marks, notes, tables, texts, ways
 
 PACKAGE = pathlib.Path(posthouse.__file__).resolve().parent
 
 # The order in which the document names the files: each draws from those ahead of it alone.
-FILES = ("errors", "bits", "texts", "tables")
+FILES = ("errors", "bits", "texts", "tables", "marks", "ways", "notes", "houses")
 
 FUNCTIONS = (
     (bits.is_address, "(thing)"),
@@ -33,6 +33,30 @@ FUNCTIONS = (
     (tables.Table().longest, "(address, most=16)"),
     (tables.Table().rows, "()"),
     (tables.Table().under, "(beginning)"),
+    (marks.better, "(one, other)"),
+    (marks.may_use, "(mark, number, far)"),
+    (marks.bettered, "(mark, number, length)"),
+    (ways.Ways, "()"),
+    (ways.Ways().tie, "(neighbour, length)"),
+    (ways.Ways().untie, "(neighbour)"),
+    (ways.Ways().hear, "(neighbour, goal, number, far)"),
+    (ways.Ways().length, "(neighbour)"),
+    (ways.Ways().neighbours, "()"),
+    (ways.Ways().goals, "()"),
+    (ways.Ways().mark, "(goal)"),
+    (ways.Ways().way, "(goal)"),
+    (notes.is_note, "(thing)"),
+    (houses.House, "(number)"),
+    (houses.House(0).own, "(beginning)"),
+    (houses.House(0).meet, "(neighbour, length)"),
+    (houses.House(0).lose, "(neighbour)"),
+    (houses.House(0).hear, "(neighbour, note)"),
+    (houses.House(0).beginnings, "()"),
+    (houses.House(0).neighbours, "()"),
+    (houses.House(0).way, "(goal)"),
+    (houses.House(0).mark, "(goal)"),
+    (houses.House(0).table, "()"),
+    (houses.House(0).look, "(address)"),
 )
 
 

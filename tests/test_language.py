@@ -25,6 +25,11 @@ WORDS = re.compile(
     r"\b(type|typing|typing_extensions|enum|Enum|IntEnum|StrEnum|Flag|IntFlag|Generic|Protocol|ABC|ABCMeta|"
     r"namedtuple|NamedTuple|TypedDict|TYPE_CHECKING|abstractmethod)\b|dataclass|overload|contextmanager"
 )
+METHODS = set(
+    "append clear copy count endswith extend find get index insert isalnum isalpha isdigit islower isspace isupper "
+    "items join keys ljust lower lstrip partition pop remove replace reverse rfind rjust rpartition rsplit rstrip "
+    "setdefault split splitlines startswith strip update upper values zfill bit_length".split()
+)
 DUNDERS = ("__init__", "__eq__", "__repr__", "__str__", "__len__", "__name__")
 
 
@@ -38,6 +43,24 @@ def names_in(tree):
             yield node.arg
         elif isinstance(node, (ast.FunctionDef, ast.ClassDef)):
             yield node.name
+
+
+def trees():
+    return [(path.name, ast.parse(path.read_text())) for path in FILES]
+
+
+def own_methods():
+    classes = [node for name, tree in trees() for node in tree.body if isinstance(node, ast.ClassDef)]
+    return {part.name for node in classes for part in node.body if isinstance(part, ast.FunctionDef)}
+
+
+def own_values():
+    stored = [node for name, tree in trees() for node in ast.walk(tree) if isinstance(node, ast.Attribute)]
+    return {node.attr for node in stored if isinstance(node.ctx, ast.Store)}
+
+
+def imports_of(tree):
+    return [node for node in tree.body if isinstance(node, ast.ImportFrom)]
 
 
 class Language(unittest.TestCase):
@@ -92,6 +115,55 @@ class Language(unittest.TestCase):
                 if isinstance(node, ast.arg):
                     with self.subTest(file=path.name, name=node.arg):
                         self.assertFalse(hasattr(builtins, node.arg))
+
+    def test_one_plain_target_in_an_assignment(self):
+        for name, tree in trees():
+            for node in ast.walk(tree):
+                if isinstance(node, ast.Assign):
+                    with self.subTest(file=name, line=node.lineno):
+                        self.assertEqual(len(node.targets), 1)
+                        self.assertIsInstance(node.targets[0], (ast.Name, ast.Attribute, ast.Subscript))
+
+    def test_is_stands_beside_none_and_truths_alone(self):
+        for name, tree in trees():
+            for node in ast.walk(tree):
+                if isinstance(node, ast.Compare) and isinstance(node.ops[0], (ast.Is, ast.IsNot)):
+                    with self.subTest(file=name, line=node.lineno):
+                        self.assertIn(ast.unparse(node.comparators[0]), ("None", "True", "False"))
+
+    def test_no_name_is_a_method_and_a_value(self):
+        self.assertEqual(own_methods() & own_values(), set())
+
+    def test_methods_that_are_called(self):
+        known = own_methods() | METHODS
+        for name, tree in trees():
+            for node in ast.walk(tree):
+                if isinstance(node, ast.Call) and isinstance(node.func, ast.Attribute):
+                    with self.subTest(file=name, line=node.lineno):
+                        self.assertIn(node.func.attr, known)
+
+    def test_imports_are_drawn_from_the_file_that_defines_them(self):
+        defined = {}
+        for name, tree in trees():
+            made = {node.name for node in tree.body if isinstance(node, (ast.FunctionDef, ast.ClassDef))}
+            kept = {node.targets[0].id for node in tree.body if isinstance(node, ast.Assign)}
+            defined["posthouse." + name.removesuffix(".py")] = made | kept
+        for name, tree in trees():
+            for node in imports_of(tree):
+                for alias in node.names:
+                    with self.subTest(file=name, name=alias.name):
+                        self.assertIn(alias.name, defined[node.module])
+                        self.assertIsNone(alias.asname)
+
+    def test_no_parameter_or_local_is_called_like_an_import(self):
+        for name, tree in trees():
+            drawn = {alias.name for node in imports_of(tree) for alias in node.names}
+            for node in ast.walk(tree):
+                with self.subTest(file=name, line=getattr(node, "lineno", None)):
+                    if isinstance(node, ast.arg):
+                        self.assertNotIn(node.arg, drawn)
+                    if isinstance(node, ast.Name) and isinstance(node.ctx, ast.Store):
+                        self.assertNotIn(node.id, drawn)
 
 
 if __name__ == "__main__":
