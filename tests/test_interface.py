@@ -4,12 +4,14 @@ import pathlib
 import unittest
 
 import posthouse
-from posthouse import bits, houses, marks, notes, tables, texts, ways
+from posthouse import bits, deeds, houses, marks, nets, notes, picks, tables, texts, ties, ways
 
 PACKAGE = pathlib.Path(posthouse.__file__).resolve().parent
 
 # The order in which the document names the files: each draws from those ahead of it alone.
-FILES = ("errors", "bits", "texts", "tables", "marks", "ways", "notes", "houses")
+FILES = (
+    "errors", "bits", "texts", "tables", "marks", "ways", "notes", "houses", "ties", "deeds", "picks", "nets",
+)
 
 FUNCTIONS = (
     (bits.is_address, "(thing)"),
@@ -57,6 +59,28 @@ FUNCTIONS = (
     (houses.House(0).mark, "(goal)"),
     (houses.House(0).table, "()"),
     (houses.House(0).look, "(address)"),
+    (ties.Ties, "()"),
+    (ties.Ties().come, "(one, other, length)"),
+    (ties.Ties().fall, "(one, other)"),
+    (ties.Ties().send, "(one, other, note)"),
+    (ties.Ties().carry, "(one, other)"),
+    (ties.Ties().length, "(one, other)"),
+    (ties.Ties().pairs, "()"),
+    (ties.Ties().waiting, "()"),
+    (ties.Ties().notes, "(one, other)"),
+    (deeds.is_deed, "(thing)"),
+    (picks.first_of, "(waiting)"),
+    (picks.last_of, "(waiting)"),
+    (picks.by_turns, "(start)"),
+    (picks.by_turns(0), "(waiting)"),
+    (nets.Net, "(count)"),
+    (nets.Net(1).do, "(deed)"),
+    (nets.Net(1).rest, "(pick, most=None)"),
+    (nets.Net(1).house, "(number)"),
+    (nets.Net(1).ties, "()"),
+    (nets.Net(1).waiting, "()"),
+    (nets.Net(1).count, "()"),
+    (nets.Net(1).log, "()"),
 )
 
 

@@ -30,6 +30,7 @@ METHODS = set(
     "items join keys ljust lower lstrip partition pop remove replace reverse rfind rjust rpartition rsplit rstrip "
     "setdefault split splitlines startswith strip update upper values zfill bit_length".split()
 )
+CHANGING = set("append clear extend insert pop remove reverse setdefault update".split())
 DUNDERS = ("__init__", "__eq__", "__repr__", "__str__", "__len__", "__name__")
 
 
@@ -141,6 +142,39 @@ class Language(unittest.TestCase):
                 if isinstance(node, ast.Call) and isinstance(node.func, ast.Attribute):
                     with self.subTest(file=name, line=node.lineno):
                         self.assertIn(node.func.attr, known)
+
+    def test_methods_are_called_where_they_stand(self):
+        for name, tree in trees():
+            nodes = list(ast.walk(tree))
+            called = {id(node.func) for node in nodes if isinstance(node, ast.Call)}
+            called |= {id(node.value) for node in nodes if isinstance(node, ast.keyword) and node.arg == "key"}
+            for node in nodes:
+                if isinstance(node, ast.Attribute) and node.attr in own_methods() | METHODS:
+                    with self.subTest(file=name, line=node.lineno):
+                        self.assertIn(id(node), called)
+
+    def test_no_loop_changes_what_it_walks(self):
+        for name, tree in trees():
+            for loop in ast.walk(tree):
+                if isinstance(loop, ast.For):
+                    walked = {ast.unparse(node) for node in ast.walk(loop.iter) if isinstance(node, (ast.Name, ast.Attribute))}
+                    for node in [part for row in loop.body for part in ast.walk(row)]:
+                        with self.subTest(file=name, line=loop.lineno):
+                            if isinstance(node, ast.Attribute) and node.attr in CHANGING:
+                                self.assertNotIn(ast.unparse(node.value), walked)
+                            if isinstance(node, ast.Subscript) and isinstance(node.ctx, ast.Store):
+                                self.assertNotIn(ast.unparse(node.value), walked)
+
+    def test_sets_are_asked_on_the_spot(self):
+        for name, tree in trees():
+            nodes = list(ast.walk(tree))
+            sets = [node for node in nodes if isinstance(node, ast.Call) and ast.unparse(node.func) == "set"]
+            spots = [node for node in nodes if isinstance(node, ast.Compare)]
+            spots += [node for node in nodes if isinstance(node, ast.Call) and ast.unparse(node.func) in ("len", "sorted")]
+            within = {id(child) for spot in spots for child in ast.iter_child_nodes(spot)}
+            for node in sets:
+                with self.subTest(file=name, line=node.lineno):
+                    self.assertIn(id(node), within)
 
     def test_imports_are_drawn_from_the_file_that_defines_them(self):
         defined = {}
