@@ -33,13 +33,15 @@ def read_beginning(text):
     return (bits, len(signs))
 
 
-def is_eight_bits(part):
+def are_figures(part, most):
     # The length is looked at first: Python won't read figures without end.
-    if len(part) < 1 or len(part) > 3:
+    if len(part) < 1 or len(part) > most:
         return False
-    if not all([sign in FIGURES for sign in part]):
-        return False
-    return str(int(part)) == part and int(part) <= 255
+    return all([sign in FIGURES for sign in part]) and str(int(part)) == part
+
+
+def is_eight_bits(part):
+    return are_figures(part, 3) and int(part) <= 255
 
 
 def read_address(text):

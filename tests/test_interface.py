@@ -4,13 +4,16 @@ import pathlib
 import unittest
 
 import posthouse
-from posthouse import bits, deeds, houses, marks, nets, notes, picks, tables, texts, ties, ways
+from posthouse import (
+    bits, deeds, houses, marks, nets, notes, picks, plays, roads, rows, shortest, tables, texts, ties, ways,
+)
 
 PACKAGE = pathlib.Path(posthouse.__file__).resolve().parent
 
 # The order in which the document names the files: each draws from those ahead of it alone.
 FILES = (
     "errors", "bits", "texts", "tables", "marks", "ways", "notes", "houses", "ties", "deeds", "picks", "nets",
+    "shortest", "roads", "rows", "plays",
 )
 
 FUNCTIONS = (
@@ -81,6 +84,13 @@ FUNCTIONS = (
     (nets.Net(1).waiting, "()"),
     (nets.Net(1).count, "()"),
     (nets.Net(1).log, "()"),
+    (shortest.fars, "(ties, start)"),
+    (shortest.due_way, "(ties, house, goal)"),
+    (shortest.due_rows, "(net, house)"),
+    (roads.road, "(net, house, address)"),
+    (roads.stairs, "(net, goal)"),
+    (rows.asked_by, "(row)"),
+    (plays.play, "(text)"),
 )
 
 

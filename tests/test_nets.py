@@ -1,14 +1,11 @@
 import random
 import unittest
 
+from net_states import NO_NUMBERS, done, notes_of, state, state_of_house
 from posthouse.errors import BadDeed, NoHouse, NoNote, NotTied, Owned, Tied
 from posthouse.houses import House
 from posthouse.nets import Net
 from posthouse.picks import by_turns, first_of, last_of
-
-NO_NUMBERS = (
-    None, True, False, "", "0", "1", [], [0], [1], (), (0,), (1,), (0, 1), {}, 1.0, 0.0, 10 ** 30, -(10 ** 30), 10 ** 5000,
-)
 
 NO_DEEDS = (
     None, True, 0, 5, 10 ** 5000, "", "fall", "fall 0 1", [], (), ["fall", 0, 1], [("fall", 0, 1)], (("fall", 0, 1),),
@@ -20,32 +17,6 @@ NO_DEEDS = (
     ("fall", 0, -1), ("fall", 0, None), ("carry", 0), ("carry", 0, 1, 5), ("carry", 0, True), ("carry", False, 1),
     ("carry", 32, 0), ("carry", 0, -1), ("carry", "0", "1"), ("rest",), ("rest", 0, 1), ("way", 0, 2, 7, ()), ("news", 0, 1),
 )
-
-
-def notes_of(net):
-    """The notes that are on their way, by their directions."""
-    notes = {}
-    for one, other, length in net.ties():
-        for way in ((one, other), (other, one)):
-            notes[way] = net.between.notes(way[0], way[1])
-    return notes
-
-
-def state_of_house(house, count):
-    knows = [(house.way(goal), house.mark(goal)) for goal in range(count)]
-    return (house.number, house.raised, house.beginnings(), house.neighbours(), knows, house.table().rows())
-
-
-def state(net):
-    houses = [state_of_house(net.house(number), net.count()) for number in range(net.count())]
-    return (houses, net.ties(), net.waiting(), notes_of(net), net.log())
-
-
-def done(count, *deeds):
-    net = Net(count)
-    for deed in deeds:
-        net.do(deed)
-    return net
 
 
 class NetTest(unittest.TestCase):

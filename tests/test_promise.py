@@ -3,16 +3,22 @@
 import random
 import unittest
 
-from posthouse.bits import least
 from posthouse.marks import better
 from posthouse.nets import Net
 from posthouse.picks import by_turns, first_of, last_of
+from posthouse.roads import road, stairs
+from posthouse.shortest import due_rows, due_way
 
 # Far more than the nets here take: a rest that carries more is taken for one without end.
 TOO_MANY = 400000
 
 
-def fars(net, start):
+# Beginnings within one another, and one address for each part that they make.
+BEGINNINGS = [(bits, size) for size in range(4) for bits in range(1 << size)]
+ADDRESSES = range(0, 65536, 8192)
+
+
+def reckoned_fars(net, start):
     result = {start: 0}
     for turn in range(net.count()):
         for one, other, length in net.ties():
@@ -22,8 +28,9 @@ def fars(net, start):
     return result
 
 
-def due_way(net, number, goal):
-    reached = fars(net, goal)
+def reckoned_way(net, number, goal):
+    """The same as due_way, found in another manner."""
+    reached = reckoned_fars(net, goal)
     if number not in reached:
         return None
     steps = [(length, other) for one, other, length in net.ties() if one == number]
@@ -84,36 +91,39 @@ class NetTest(unittest.TestCase):
                     self.assertLessEqual(house.mark(goal.number)[0], goal.raised)
 
     def check_no_ring(self, net):
-        owned = [beginning for number in range(net.count()) for beginning in net.house(number).beginnings()]
         for number in range(net.count()):
-            for beginning in owned:
-                passed = [number]
-                row = net.house(number).look(least(beginning))
-                while row is not None and row[1] not in (None, passed[-1]):
-                    self.assertNotIn(row[1], passed)
-                    passed.append(row[1])
-                    row = net.house(row[1]).look(least(beginning))
+            for address in ADDRESSES:
+                houses, word = road(net, number, address)
+                self.assertIn(word, ("here", "held", "lost"))
+                self.assertEqual(houses[0], number)
+                self.assertEqual(len(set(houses)), len(houses))
 
     def check_state(self, net):
+        for goal in range(net.count()):
+            self.assertIs(stairs(net, goal), True)
         self.check_marks_along_ways(net)
         self.check_no_ring(net)
 
     def check_rest(self, net):
         self.assertEqual(net.waiting(), [])
+        self.check_state(net)
+        ties = net.ties()
         for number in range(net.count()):
             house = net.house(number)
             wanted = {beginning: number for beginning in house.beginnings()}
             for goal in range(net.count()):
                 if goal == number:
                     continue
-                due = due_way(net, number, goal)
+                due = due_way(ties, number, goal)
+                self.assertEqual(due, reckoned_way(net, number, goal))
                 if due is None:
                     self.assertIsNone(house.way(goal))
                     continue
                 self.assertEqual(house.way(goal)[1:], due)
                 wanted.update({beginning: due[1] for beginning in net.house(goal).beginnings()})
-            rows = dict(row for row in house.table().rows() if row[1] is not None)
-            self.assertEqual(rows, wanted)
+            rows = [row for row in house.table().rows() if row[1] is not None]
+            self.assertEqual(rows, due_rows(net, number))
+            self.assertEqual(dict(rows), wanted)
 
     def carry_some(self, net, pick, most):
         carried = 0
@@ -125,7 +135,7 @@ class NetTest(unittest.TestCase):
     def do_something(self, net, chance):
         one, other = chance.sample(range(net.count()), 2)
         kind = chance.randrange(4)
-        beginning = (chance.randrange(8), 3)
+        beginning = chance.choice(BEGINNINGS)
         owned = [beginning for number in range(net.count()) for beginning in net.house(number).beginnings()]
         tied = [tie[:2] for tie in net.ties()]
         if kind == 0 and beginning not in owned:
